@@ -88,11 +88,15 @@ def would_break(camp, having, one, other):
     return camp.would_rather(other, one, having.get(other))
 
 
-def breaking(camp, pairs):
-    having = partners(camp, pairs)
+# having tells whom each camper has: who has None there, or does not stand in it, is alone.
+def breakers(camp, having):
     found = []
     for lesser in range(camp.size):
         for greater in range(lesser + 1, camp.size):
             if would_break(camp, having, lesser, greater):
                 found.append((lesser, greater))
     return found
+
+
+def breaking(camp, pairs):
+    return breakers(camp, partners(camp, pairs))

@@ -5,9 +5,8 @@ from copy import deepcopy
 
 from tentpairs.camps import Camp, breaking
 from tentpairs.errors import BadCamp, BadPairs, CampError
-from tests.samples import all_lists, all_pairs, plain_breaking, some_lists
+from tests.samples import NO_NUMBERS, all_lists, all_pairs, plain_breaking, some_lists
 
-NO_NUMBERS = (True, False, None, 1.0, 0.0, "1", "", [1], (1,), {}, 1j)
 NO_CAMPERS = (-1, -2, 2, 3, 6, 7, 10**5000, -(10**5000))
 
 
